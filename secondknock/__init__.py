@@ -1,0 +1,1 @@
+"""Secondknock: a house's fire panel, told exactly."""

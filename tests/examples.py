@@ -1,0 +1,135 @@
+"""Each example of the document, as it stands there, point by point and in its order."""
+
+EXAMPLES = (
+    (4, r"""
+>>> hall = (0, (("feel", 0), ("cut",), ("feel", 1), ("feel", 2), ("bell", 0), ("cut",), ("feel", 0)))
+>>> sections_of(hall), section_of((hall,), (0, 1)), section_of((hall,), (0, 7)), sections_of((0, (("cut",),)))
+([(0,), (2, 3, 4), (6,)], 0, 2, [(), ()])
+>>> short, crack = ("short", (0, 4)), ("break", (0, 3))
+>>> heard((hall,), ()), lost((hall,), (short,)), lost((hall,), (crack, short)), lost((hall,), (crack,))
+(((0, 0), (0, 2), (0, 3), (0, 4), (0, 6)), ((0, 2), (0, 3), (0, 4)), ((0, 3), (0, 4)), ())
+>>> first_from_a((hall,), (crack, short), 0), first_from_b((hall,), (crack, short), 0), heard_by(hall, crack, short)
+(('break', (0, 3)), ('short', (0, 4)), (0, 2, 6))
+>>> opened((hall,), (short,), 0), opened((hall,), (crack, short), 0), opened((hall,), (("short", (0, 0)),), 0)
+((1, 5), (5,), (-1, 1))
+>>> heard_from_a((hall,), (("break", (0, 5)),), 0), heard_from_b((hall,), (("break", (0, 5)),), 0)
+((0, 2, 3, 4), (6,))
+>>> are_faults((hall,), (crack, short)), are_faults((hall,), (("break", (0, 4)), short)), are_faults((hall,), (short, crack))
+(True, False, False)
+>>> is_heard((hall,), (), (0, 7))
+raises NoSpot(spot=(0, 7))
+"""),
+    (5, r"""
+>>> mishaps_between(hall, ("break", (0, 0)), short), mishaps_between(hall, short, crack), mishaps_alike((hall,), (crack, short))
+(27, 0, 16)
+>>> len(heard_counts(hall)), heard_counts(hall)[0], ((0, 2, 6), 16) in heard_counts(hall)
+(16, ((), 3969), True)
+>>> plain_faults((hall,), (crack, ("break", (0, 4)), ("short", (0, 5)))), mishap_for((hall,), 0, (2, 3)), mishap_for((hall,), 0, (0, 2, 3, 4, 6))
+((('break', (0, 3)), ('break', (0, 5))), None, ())
+>>> brought_back((hall,), (short,), crack), bringers((hall,), (short,)), taken_away((hall,), (crack,), short)
+(((0, 2),), (('break', (0, 3)),), ((0, 3), (0, 4)))
+>>> three = ((0, 2), (0, 3), (0, 6))
+>>> [least_heard((hall,), three, many) for many in (0, 1, 2)], is_worst_mishap((hall,), three, 1, (short,)), [most_heard((hall,), three, many) for many in (1, 7, 8, 9)]
+([3, 1, 0], True, [3, 1, 0, None])
+>>> deaf_count((hall,), three, 2), least_deaf((hall,), three, 2)[:2], deaf_count((hall,), ((0, 0),), 1)
+(37, [(('break', (0, 0)), ('break', (0, 4))), (('break', (0, 0)), ('break', (0, 5)))], 15)
+>>> brought_back((hall,), (short,), ("break", (0, 4)))
+raises Unfit()
+"""),
+    (6, r"""
+>>> inn = ((hall,), ((((0, 0), (0, 2)), 1, None), (((0, 2), (0, 3), (0, 6)), 2, None)), ((0, "any", (0,), 3, (), 0, 4, 0), (0, "all", (0, 1), 2, (), 1, 0, 0)), ("bell", "door"), 1)
+>>> barred = inn[:2] + (((0, "any", (0,), 3, (1,), 0, 4, 1), (0, "any", (1,), 1, (), 1, 0, 0)),) + inn[3:]
+>>> loft = ((hall, (1, (("feel", 3), ("bell", 0)))), ((((0, 0),), 1, None), (((1, 0),), 1, 2)), ((0, "all", (0, 1), 0, (), 0, 0, 0), (1, "any", (1,), 2, (0,), 1, 0, 0)), ("bell", "door"), 2)
+>>> feelers(inn), bells(inn), cuts(inn), gaps(loft)[7:]
+(((0, 0), (0, 2), (0, 3), (0, 6)), ((0, 4),), ((0, 1), (0, 5)), ((0, 7), (1, 0), (1, 1), (1, 2)))
+>>> zones_at(inn, (0, 2)), panel_of(loft, 1), on_panel(loft, 1), piece_at(loft, (1, 0))
+((0, 1), 1, ((1,), (1,), (1,)), ('feel', 3))
+>>> callers(barred, 0), barrers(barred, 0), lines_to(inn, 1), [rises(own) for own in (inn, barred, loft)], one_mind(loft)
+((0,), (1,), (1,), [True, False, False], True)
+>>> anew(barred, (0,), (1, 0), (1, 0), (0, 1))[2]
+((0, 'any', (0,), 1, (), 1, 0, 0), (0, 'any', (1,), 3, (0,), 0, 4, 1))
+>>> turned_house(inn, 0)[1][0][0], turned_house(turned_house(inn, 0), 0) == inn, spot_anew(loft, (1, 0), (1, 0))
+(((0, 4), (0, 6)), True, (0, 0))
+>>> speech, steps = (((0, 2), ((1, 4), (6, None))),), ((0, ("off", (0, 3))), (2, ("harm", ("break", (0, 2)))), (2, ("more", 0)))
+>>> is_speech(inn, speech), is_play((inn, speech, steps, 9)), is_deed(inn, ("part", 0)), is_deed(loft, ("part", 1))
+(True, True, False, True)
+>>> turned_play((inn, speech, steps, 9), 0)[1:3]
+((((0, 4), ((1, 4), (6, None))),), ((0, ('off', (0, 3))), (2, ('harm', ('break', (0, 5)))), (2, ('more', 0))))
+>>> is_house(inn), is_house(inn[:4] + (4,)), is_house((inn[0], ((((0, 1),), 1, None),), (), (), 1))
+(True, False, False)
+>>> zones_at(inn, (0, 4))
+raises NoSpot(spot=(0, 4))
+>>> anew(inn, (0,), (0, 0), (0, 1), (0, 1))
+raises Unfit()
+"""),
+    (7, r"""
+>>> told = (((0, 0), ((5, None),)), ((0, 2), ((1, None),)), ((0, 6), ((2, None),)))
+>>> speaking(told, 2), can_do(inn, fresh_stand(inn), ("on", (0, 2))), patience(inn), patience(loft)
+(((0, 2), (0, 6)), False, 7, 2)
+>>> first = after_tick(inn, fresh_stand(inn), (), ((0, 2),), 1)
+>>> first[3:6] == ((((0, 2), 1),), ((1, None),), (("waits", 1, 4), ("idle", None, None))), knocked(inn, first)
+(True, (0,))
+>>> asked = after_deed(inn, first, ("more", 0))
+>>> asked[5][0], can_do(inn, asked, ("more", 0)), after_deed(inn, asked, ("back",)) == fresh_stand(inn)[:6] + ((0,), (None, None), False)
+(('waits', 1, 8), False, True)
+>>> dark = after_deed(inn, fresh_stand(inn), ("harm", ("short", (0, 4))))
+>>> after_tick(inn, dark, (), ((0, 2), (0, 6)), 0)[3], can_do(inn, dark, ("harm", ("break", (0, 4))))
+((((0, 6), 0),), False)
+>>> late = after_tick(inn, first, (("quiet",),), ((0, 2),), 4)
+>>> loud = after_deed(inn, late, ("sound",))
+>>> late[7], sounding(inn, late), sounding(inn, loud), ringing(inn, loud), aged(inn, late, 4)[3:6]
+((4, None), (), (0,), ((0, 4),), ((((0, 2), 0),), ((True, False),), (('on', 0), ('idle', 0))))
+>>> can_do(inn, first, ("more", 2))
+raises NoLine(number=2)
+"""),
+    (8, r"""
+>>> run, fire = (inn, told, (), 8), (((0, 0), ((0, None),)), ((1, 0), ((0, None),)))
+>>> knock_ticks(run), on_ticks(run), sounded(run, 4), rung(run, 4), turns(run), on_ticks((inn, told, ((4, ("back",)),), 8))
+((1, 2), (4, 4), (0, 1), ((0, 4),), (0, 1, 2, 5), (7, 6))
+>>> on_ticks((loft, fire, (), 4)), on_ticks((loft, fire, ((0, ("part", 0)), (0, ("part", 1))), 4))
+((0, None), (None, 2))
+>>> plain_play((inn, told, ((1, ("off", (0, 2))), (3, ("on", (0, 2)))), 8))[1] == told[:1] + (((0, 2), ((3, None),)),) + told[2:]
+True
+>>> cut_pauses((loft, fire[:1] + (((1, 0), ((9, 12),)),), (), 20)) == (loft, fire[:1] + (((1, 0), ((3, 6),)),), (), 9)
+True
+>>> ends_of(loft, (("speak", (1, 0)), ("speak", (0, 0))))
+[((0,), (0, 0)), ((0, 1), (0, 3))]
+>>> passed_over((inn, told, ((0, ("on", (0, 2))),), 8)), drawn_out((loft, fire, ((5, ("back",)),), 6), 5, 2)[2:]
+((0,), (((7, ('back',)),), 8))
+"""),
+    (9, r"""
+>>> any_of, two_of = knock_form(((0, 0), (0, 2)), 1), knock_form(((0, 2), (0, 3), (0, 6)), 2)
+>>> any_of, len(two_of), knock_form(((0, 0),), 2)
+(((((0, 0), 0),), (((0, 2), 0),)), 3, ())
+>>> fire = (((0, 0), 5), ((0, 2), 1), ((0, 6), 2))
+>>> form_at(any_of, fire), form_at(two_of, fire), form_at(after(two_of, 3), fire[:2]), rows_at(two_of, fire)
+(1, 2, None, ((((0, 2), 0), ((0, 6), 0)),))
+>>> late = both(any_of, two_of)
+>>> late == ((((0, 0), 0), ((0, 3), 0), ((0, 6), 0)), (((0, 2), 0), ((0, 3), 0)), (((0, 2), 0), ((0, 6), 0)))
+True
+>>> never_above(any_of, late), never_above(late, two_of), late_by(after(any_of, 4), late), late_by(late, two_of), late_by(late, any_of)
+(True, False, 4, None, None)
+>>> lies_over((((0, 2), 3), ((0, 3), 0)), (((0, 2), 2),)), without(late, ((0, 3),)), row_begins((((0, 2), 3), ((0, 3), 0)))
+(True, ((((0, 2), 0), ((0, 6), 0)),), (((0, 2), 0), ((0, 3), 3)))
+>>> is_parting(late, two_of, (((0, 3), 4), ((0, 6), 4))), is_parting(late, two_of, fire), is_form(())
+(True, False, True)
+>>> parting_begins(any_of, late)
+raises CanNot()
+"""),
+    (21, r"""
+>>> island_of(3, (0,), 0), islands(3, (0, 2)), islands(2, (0,)), alike_parted(3, (0, 1), (1, 2)), alike_parted(3, (0,), ())
+((0, 1, 2), [(0,), (1, 2)], [(0, 1)], False, True)
+>>> cut = ((0, ("part", 0)), (0, ("part", 1)), (6, ("join", 1)))
+>>> house = loft[:1] + ((loft[1][0], (((1, 0),), 1, None)),) + loft[2:]
+>>> parted_at(house, cut, 0), parted_at(house, cut, 6), joined_stretches(house, cut, 0, 1, 9)
+((0, 1), (0,), ((6, 9),))
+>>> seen_rows(house, (2, 3), cut, 9), out_ticks(house, (2, 3), cut, 9), out_ticks(house, (2, 3), (), 9)
+(((2, 6), (6, 3)), (6, 5), (3, None))
+>>> rung_alone(house, (2, 3), cut, 9), left_out(house, (2, 3), cut[:2], 9), parts_that_ring(house, (2, 3), 1, 9)
+((1,), (0,), [(0, 1)])
+>>> line_rows(house, (2, 3), cut, 9)
+(('on', 6, 6), ('on', 3, 5))
+>>> seen_tick(house, (2, 3), cut, 2, 0, 9)
+raises NoPanel(number=2)
+"""),
+)

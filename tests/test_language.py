@@ -1,0 +1,149 @@
+"""Rules of ../shared/LANGUAGE.md that a look at the files can tell."""
+
+import ast
+import builtins
+import re
+import unittest
+from pathlib import Path
+
+PACKAGE = Path(__file__).resolve().parent.parent / "secondknock"
+FILES = sorted(PACKAGE.glob("*.py"))
+BUILTINS = set(
+    "len range enumerate zip min max sum abs sorted reversed int str bool bytes list tuple dict set isinstance ord "
+    "repr any all divmod Exception ValueError TypeError KeyError IndexError LookupError".split()
+)
+LIBRARY = {
+    "heapq": {"heappush", "heappop", "heapify", "heapreplace", "heappushpop"},
+    "math": {"gcd", "lcm", "isqrt", "comb", "perm", "factorial"},
+    "itertools": {"product", "combinations", "permutations", "chain", "accumulate", "pairwise", "islice"},
+}
+WORDS = (
+    "register mro elements open input law with_traceback add_note attrgetter breakpoint builtins compile copyright credits "
+    "delattr dir eval exec exit gc getattr globals hasattr help id importlib license locals methodcaller os quit setattr "
+    "super type vars sys typing enum namedtuple next iter map filter format hash round"
+).split()
+STATEMENTS = (
+    ast.Assign, ast.AugAssign, ast.If, ast.While, ast.For, ast.Return, ast.Break, ast.Continue, ast.Pass, ast.Raise,
+    ast.Assert, ast.Delete, ast.Expr, ast.FunctionDef, ast.ClassDef, ast.ImportFrom,
+)
+AT_ONCE = {"zip", "enumerate", "reversed", "range"}
+
+
+def bound_names(tree):
+    """All names that are given a meaning in the functions of a file: parameters and targets."""
+    for node in ast.walk(tree):
+        if isinstance(node, ast.arg):
+            yield node.arg, node
+        elif isinstance(node, ast.Name) and isinstance(node.ctx, ast.Store):
+            yield node.id, node
+
+
+class Language(unittest.TestCase):
+    longMessage = True
+
+    def each(self):
+        texts = [(path, path.read_text(encoding="utf-8")) for path in FILES]
+        return [(path, text, ast.parse(text, str(path))) for path, text in texts]
+
+    def test_files(self):
+        self.assertIn("__init__.py", [path.name for path in FILES])
+        others = [path.name for path in PACKAGE.iterdir() if path not in FILES and path.name != "__pycache__"]
+        self.assertEqual(others, [])
+        for path, text, tree in self.each():
+            self.assertRegex(path.name, r"^[a-z_]+\.py$")
+            self.assertIsNone(re.search(r"[^ -~\n]", text))
+            lines = text.split("\n")
+            self.assertLessEqual(len(lines), 399)
+            self.assertLessEqual(max(len(line) for line in lines), 120)
+            for node in ast.walk(tree):
+                if isinstance(node, ast.FunctionDef):
+                    self.assertLessEqual(node.end_lineno - node.lineno + 1, 40, node.name)
+                    self.assertEqual(node.decorator_list, [])
+                    self.assertTrue(ast.get_docstring(node) or node.name == "__init__", node.name)
+
+    def test_imports(self):
+        names = {path.stem for path in FILES}
+        for path, _, tree in self.each():
+            for node in ast.walk(tree):
+                self.assertNotIsInstance(node, ast.Import)
+                if not isinstance(node, ast.ImportFrom):
+                    continue
+                self.assertIn(node, tree.body)
+                for own in node.names:
+                    self.assertIsNone(own.asname)
+                if node.module in LIBRARY:
+                    self.assertLessEqual({own.name for own in node.names}, LIBRARY[node.module])
+                    continue
+                package, module = node.module.split(".")
+                self.assertEqual(package, "secondknock")
+                self.assertIn(module, names)
+                source = ast.parse((PACKAGE / (module + ".py")).read_text(encoding="utf-8"))
+                defined = {own.name for own in source.body if isinstance(own, (ast.FunctionDef, ast.ClassDef))}
+                defined |= {own.targets[0].id for own in source.body if isinstance(own, ast.Assign)}
+                self.assertLessEqual({own.name for own in node.names}, defined)
+
+    def test_no_circle_of_imports(self):
+        needs = {}
+        for path, _, tree in self.each():
+            modules = [node.module for node in tree.body if isinstance(node, ast.ImportFrom)]
+            needs[path.stem] = {name.split(".")[1] for name in modules if "." in name}
+        while needs:
+            free = [name for name, row in needs.items() if not row & set(needs)]
+            self.assertTrue(free, needs)
+            for name in free:
+                del needs[name]
+
+    def test_all_imports_are_used(self):
+        for path, _, tree in self.each():
+            used = {node.id for node in ast.walk(tree) if isinstance(node, ast.Name)}
+            for node in tree.body:
+                if isinstance(node, ast.ImportFrom):
+                    self.assertLessEqual({own.name for own in node.names}, used, path.name)
+
+    def test_names(self):
+        for path, _, tree in self.each():
+            top = {own.name for own in tree.body if isinstance(own, (ast.FunctionDef, ast.ClassDef))}
+            barred = {own.name for node in tree.body if isinstance(node, ast.ImportFrom) for own in node.names}
+            barred |= {own.name for own in tree.body if isinstance(own, ast.ClassDef)}
+            for name, node in bound_names(tree):
+                self.assertNotIn(name, barred | top, (name, node.lineno))
+                self.assertNotIn(name, WORDS, (name, node.lineno))
+                self.assertFalse(hasattr(builtins, name), (name, node.lineno))
+                self.assertRegex(name, r"^([A-Za-z][A-Za-z0-9_]*|_)$")
+            for name in top:
+                self.assertFalse(hasattr(builtins, name) or name in WORDS, name)
+            for node in ast.walk(tree):
+                if isinstance(node, ast.Name) and isinstance(node.ctx, ast.Load):
+                    self.assertNotEqual(node.id, "_", node.lineno)
+                    if hasattr(builtins, node.id):
+                        self.assertIn(node.id, BUILTINS, node.lineno)
+
+    def test_statements_and_values(self):
+        for path, _, tree in self.each():
+            for node in ast.walk(tree):
+                if isinstance(node, ast.stmt):
+                    self.assertIsInstance(node, STATEMENTS, node.lineno)
+                if isinstance(node, ast.Constant):
+                    self.assertNotIsInstance(node.value, (float, complex), node.lineno)
+                self.assertNotIsInstance(node, (ast.Div, ast.MatMult, ast.GeneratorExp, ast.Set, ast.SetComp))
+                if isinstance(node, ast.Compare):
+                    for sign, other in zip(node.ops, node.comparators):
+                        if isinstance(sign, (ast.Is, ast.IsNot)):
+                            self.assertIsInstance(other, ast.Constant, node.lineno)
+                if isinstance(node, ast.Constant) and isinstance(node.value, str):
+                    self.assertNotIn("%", node.value)
+
+    def test_where_sets_and_iterators_stand(self):
+        for path, _, tree in self.each():
+            for node in ast.walk(tree):
+                for own in ast.iter_child_nodes(node):
+                    if not isinstance(own, ast.Call) or not isinstance(own.func, ast.Name):
+                        continue
+                    if own.func.id == "set":
+                        self.assertIsInstance(node, ast.Call, own.lineno)
+                        self.assertIn(node.func.id, ("sorted", "len"), own.lineno)
+                        self.assertEqual(node.keywords, [], own.lineno)
+                    if own.func.id in AT_ONCE:
+                        self.assertIsInstance(node, (ast.For, ast.comprehension, ast.Call), own.lineno)
+                        if isinstance(node, ast.Call):
+                            self.assertIn(node.func.id, ("list", "tuple", "sorted", "sum"), own.lineno)
