@@ -1,6 +1,6 @@
 """Houses, speeches, deeds and plays: what is one, what is where, and the same one named anew or turned."""
 
-from secondknock.errors import NoOut, NoPanel, NoSpot, NoZone, Unfit
+from secondknock.errors import NoLine, NoOut, NoPanel, NoSpot, NoZone, Unfit
 from secondknock.rings import CUT, check_ring, check_spot, is_fault, is_ring, is_spot
 from secondknock.values import (
     are_stretches,
@@ -146,6 +146,12 @@ def check_zone(house, number):
     """Raises NoZone if no ZONE has this number."""
     if not 0 <= number < len(house[1]):
         raise NoZone(number)
+
+
+def check_line(house, number):
+    """Raises NoLine if no LINE has this number."""
+    if not 0 <= number < len(house[2]):
+        raise NoLine(number)
 
 
 def check_out(house, number):

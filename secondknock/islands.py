@@ -1,8 +1,8 @@
 """Islands of panels while links are parted, and what each of them sees, FOR ALL ticks told."""
 
-from secondknock.errors import NoLine, NoPanel
-from secondknock.houses import check_panel, check_zone, link_count, zone_panel
-from secondknock.values import as_set, frozen, least_sets, subsets, without_one
+from secondknock.errors import NoPanel
+from secondknock.houses import check_line, check_panel, check_zone, link_count, zone_panel
+from secondknock.values import as_set, frozen, least_sets, spans_in, subsets, without_one
 
 
 def check_links(panels, links):
@@ -85,9 +85,7 @@ def joined_stretches(house, deeds, panel, other, many):
     check_panel(house[4], panel)
     check_panel(house[4], other)
     joined = [other in row[panel] for row in rows_by_tick(house, deeds, many)]
-    begins = [tick for tick in range(many) if joined[tick] and (tick == 0 or not joined[tick - 1])]
-    ends = [tick + 1 for tick in range(many) if joined[tick] and (tick + 1 == many or not joined[tick + 1])]
-    return tuple(list(zip(begins, ends)))
+    return tuple(spans_in(joined, ()))
 
 
 def first_seen(house, times, rows, panel, zone):
@@ -195,8 +193,7 @@ def left_out(house, times, deeds, many):
 def parts_that_ring(house, times, number, many):
     """The list, ascending, of the least sets of links that, parted from tick 0 on, let this LINE ring alone."""
     house, times = frozen(house), frozen(times)
-    if not 0 <= number < len(house[2]):
-        raise NoLine(number)
+    check_line(house, number)
     line = house[2][number]
     found = []
     for links in subsets(list(range(link_count(house[4])))):

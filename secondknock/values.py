@@ -96,3 +96,32 @@ def subsets(row):
     for member in row:
         found = found + [own + (member,) for own in found]
     return found
+
+
+def greatest_sets(rows):
+    """Those of these unlike sets that lie in no other one of them, ascending."""
+    return sorted([row for row in rows if not any([lies_in(row, own) and own != row for own in rows])])
+
+
+def every_row(lists):
+    """The list of all tuples with one of each of these lists, in order."""
+    rows = [()]
+    for members in lists:
+        rows = [row + (own,) for row in rows for own in members]
+    return rows
+
+
+def multiplied(numbers):
+    """All these numbers, multiplied."""
+    total = 1
+    for number in numbers:
+        total = total * number
+    return total
+
+
+def spans_in(held, marks):
+    """The list of the pairs (from, to): greatest runs of True from one to below the other, none going over marks."""
+    many = len(held)
+    begins = [at for at in range(many) if held[at] and (at == 0 or at in marks or not held[at - 1])]
+    ends = [at for at in range(1, many + 1) if held[at - 1] and (at == many or at in marks or not held[at])]
+    return list(zip(begins, ends))

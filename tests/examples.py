@@ -116,6 +116,66 @@ True
 >>> parting_begins(any_of, late)
 raises CanNot()
 """),
+    (10, r"""
+>>> out_form(inn, 0, ()), len(zone_form(inn, 1, ())), out_form(inn, 1, ((0, 2),))
+(((((0, 0), 3),), (((0, 2), 3),)), 3, ((((0, 0), 2), ((0, 3), 2), ((0, 6), 2)),))
+>>> first_ticks(inn, fire, ()), first_ticks(inn, begins_from(fire, 4), ()), first_ticks(inn, fire, ((0, 0), (0, 2)))
+((4, 4), (7, 6), (None, None))
+>>> hangs_on(inn, 0, (0, 3)), hangs_on(inn, 1, (0, 2)), later_without(inn, 1, ((0, 0),)), later_without(inn, 0, ((0, 0),))
+('never', 'some', None, None)
+>>> on_within(inn, 0, 0, 3), on_within(inn, 1, 1, 9), least_shorter(inn, 0, 0, 0, 1), needless_lines(inn), deaf_pairs(inn, 0, 0)[:2]
+(True, False, 2, (), (((0, 0), (0, 2)), ((0, 0), (0, 3))))
+>>> parting_out(inn, inn)
+raises CanNot()
+"""),
+    (11, r"""
+>>> ways = ((0, 1, 4), (1, 2, 2), (2, 0, 7))
+>>> blaze = (3, ways, 0, 0)
+>>> arrivals(blaze), fire_begins(inn, blaze), on_by_fire(inn, blaze, 0), on_by_fire(inn, blaze, 1)
+((0, 4, 6), (((0, 0), 0), ((0, 2), 4), ((0, 3), 6), ((0, 6), 0)), 3, 6)
+>>> arrivals((3, ((0, 1, 4),), 1, 2)), is_fire((3, ways, 3, 0)), is_fire((3, ((0, 0, 1),), 0, 0))
+((None, 2, None), False, False)
+>>> latest_starts(inn, 3, ways, 0), latest_starts(inn, 3, ways, 1), starts_within(inn, 3, ways, 0, 3)
+((10, (2,)), (9, (2,)), (0, 1))
+>>> quick, slow = (3, ways, 2, 0), (3, ((0, 1, 6), (1, 2, 3), (2, 0, 9)), 2, 1)
+>>> no_faster(quick, slow), span_by_fires(inn, quick, slow, 0), is_between(quick, slow, fire_for(inn, quick, slow, 0, 12))
+(True, (10, 13), True)
+>>> with_feeler(inn, 0, 2, 0)[1][0], fewest_more(inn, 3, ways, 0, 3, 0, 0), fewest_more(inn, 3, ways, 0, 2, 0, 0)
+((((0, 0), (0, 2), (0, 7)), 1, None), (2,), None)
+>>> fire_for(inn, quick, slow, 0, 9)
+raises CanNot()
+>>> on_by_fire(barred, blaze, 0)
+raises Unfit()
+"""),
+    (12, r"""
+>>> ward = (3, ((0, 1, 2, 4), (0, 2, 4, 9), (1, 2, 1, 3)))
+>>> arrivals_by(ward, 0, (3, 7, 2)), roads(ward, 0, 2), roads(ward, 0, 0), first_and_last(ward, 0, 2)
+((0, 3, 5), [(0, 2), (1,)], [()], (3, 7))
+>>> most_late(ward, 0, 1, 2), worst_road(ward, 0, 1, 2), worst_spreads(ward, 0, 1, 2), lateness(ward, 0, 2, 1)
+(0, (1,), (4, 4, 3), (0, 3))
+>>> is_worst(ward, 0, 1, 2, (4, 4, 1)), is_worst(ward, 0, 1, 2, (2, 4, 3)), arrivals_by(ward, 1, (3, 7, 2)), most_late(ward, 1, 0, 2)
+(True, False, (None, 0, 2), None)
+>>> never_barred(ward, 0, 1, 0, 2), always_barred(ward, 0, 1, 3, 2), always_barred(ward, 0, 1, 2, 2)
+(False, True, False)
+>>> vault = (5, ((0, 2, 4, 4), (0, 3, 6, 6), (0, 4, 1, 10), (4, 1, 1, 1), (4, 3, 1, 1)))
+>>> late_behind(vault, 0, 3, (1, 2)), second_arrival(vault, 0, (4, 6, 1, 1, 1), (1, 2)), second_late(ward, 0, (1, 2), 1)
+(0, 4, 3)
+>>> most_late(ward, 0, 3, 5)
+raises NoPlace(number=3)
+"""),
+    (13, r"""
+>>> duo, murmur = (((0, 2), (0, 3), (0, 6)), 2, 2), (((0, 2), ((1, 3), (9, 10))), ((0, 3), ((4, 5),)), ((0, 6), ((10, 12),)))
+>>> [knocked_at(duo[:2] + (stay,), murmur) for stay in (2, 1, 0)], knocked_anew(duo, murmur, (5,)), least_stay(duo, (murmur,))
+([4, 10, None], (4, 10), 1)
+>>> room(duo, murmur, (0, 2), 0), helps(duo, murmur, (0, 6), 9), echo_behind(duo, murmur, 2), rest_apart(duo, (2, 0, 0), (1, 0, 0))
+((2, 3), (0, 1, 2, 3), (2, 0, 0), ((), (1,)))
+>>> [never_behind(own, duo) for own in (duo[:2] + (None,), duo[:2] + (1,), (duo[0][:2], 1, 0))], silent_talks(duo, 2), silent_talk(duo, 2, 5)
+([True, False, True], 10, ((0,), (0,)))
+>>> knocks_by_lots(inn, 1, (((0, 2), 1), ((0, 3), 2), ((0, 6), 3)), 1)
+[(2, 13), (None, 4)]
+>>> room(duo, murmur, (0, 4), 0)
+raises NoSpot(spot=(0, 4))
+"""),
     (21, r"""
 >>> island_of(3, (0,), 0), islands(3, (0, 2)), islands(2, (0,)), alike_parted(3, (0, 1), (1, 2)), alike_parted(3, (0,), ())
 ((0, 1, 2), [(0,), (1, 2)], [(0, 1)], False, True)

@@ -235,3 +235,82 @@ def course_of(play):
             "knocked": tuple(z for z in range(len(house[1])) if (course.panel(z), z) in course.seen),
         })
     return rows
+
+
+def speech_of(begins):
+    return tuple((spot, ((tick, None),)) for spot, tick in begins)
+
+
+def first_on(house, begins, many, deeds=()):
+    """For ZONES, LINES and OUTS the first ticks below many at which they are knocked, are on; None without."""
+    rows = course_of((house, speech_of(begins), deeds, many))
+    states = [
+        {number for number, own in enumerate(row["stand"][5]) if own[0] == "on"} for row in rows
+    ]
+    found = []
+    for held, count in (([row["knocked"] for row in rows], 1), (states, 2), ([row["on"] for row in rows], 3)):
+        found.append(tuple(
+            min((tick for tick, row in enumerate(held) if number in row), default=None)
+            for number in range(len(house[count]))
+        ))
+    return tuple(found)
+
+
+def later(tick):
+    """A key: None, never, is later than all ticks."""
+    return (tick is None, tick or 0)
+
+
+def spots_of_feelers(house):
+    return tuple(
+        (number, at) for number, ring in enumerate(house[0]) for at, own in enumerate(ring[1]) if own[0] == "feel"
+    )
+
+
+def greatest_of(rows):
+    return sorted(row for row in rows if not any(set(row) < set(other) for other in rows))
+
+
+def least_of(rows):
+    return sorted(row for row in rows if not any(set(other) < set(row) for other in rows))
+
+
+def all_subsets(row):
+    for many in range(len(row) + 1):
+        yield from itertools.combinations(row, many)
+
+
+def walks(ways, start, end, passed=()):
+    """The ticks of all ways from start to end on which no place comes twice."""
+    if start == end:
+        yield 0
+    for one, other, ticks in ways:
+        if one == start and other not in passed and other != start:
+            for more in walks(ways, other, end, passed + (start,)):
+                yield ticks + more
+
+
+def arrivals(places, ways, start):
+    return tuple(min(walks(ways, start, place), default=None) for place in range(places))
+
+
+def risen_ticks(house, begins):
+    """As first_on, of a HOUSE that rises and to whose end it goes, by counting who has begun by each tick."""
+    ticks = dict(begins)
+    zones = []
+    for spots, knocks, _ in house[1]:
+        told = [tick for tick in sorted(ticks.values()) if sum(ticks.get(spot, tick + 1) <= tick for spot in spots) >= knocks]
+        zones.append(told[0] if told else None)
+    lines = []
+    for _, when, called, wait, _, _, _, _ in house[2]:
+        row = [zones[zone] for zone in called]
+        begun = [tick for tick in row if tick is not None]
+        if begun and (when == "any" or None not in row):
+            lines.append((min if when == "any" else max)(begun) + wait)
+        else:
+            lines.append(None)
+    outs = [
+        min((tick for tick, line in zip(lines, house[2]) if line[5] == out and tick is not None), default=None)
+        for out in range(len(house[3]))
+    ]
+    return tuple(zones), tuple(lines), tuple(outs)

@@ -108,3 +108,40 @@ def some_play(dice, longest=18, many_deeds=8):
     deeds = [own for own in deeds if own is not None]
     ticks = sorted(dice.randrange(longest) for _ in deeds)
     return (house, some_speech(dice, house, longest), tuple(zip(ticks, deeds)), dice.randint(0, longest))
+
+
+# A HOUSE that rises, of two panels: an OUT without LINES, a place with two feelers, a ZONE that asks two.
+tower = (
+    (
+        (0, (("feel", 0), ("cut",), ("feel", 2), ("bell", 0))),
+        (1, (("feel", 1), ("feel", 1), ("feel", 7))),
+    ),
+    ((((0, 0), (0, 2)), 1, None), (((1, 0), (1, 1), (1, 2)), 2, None), (((0, 2),), 1, None)),
+    (
+        (0, "any", (0, 1), 2, (), 0, 3, 0), (1, "all", (0, 1), 1, (), 2, 0, 0), (1, "any", (2,), 4, (), 0, 0, 1),
+        (0, "all", (0, 2), 3, (), 2, 0, 0),
+    ),
+    ("bell", "door", "door"),
+    2,
+)
+# Eight feelers, ZONES of all of them that ask two: FORMS of 28 ROWS, too many together.
+eight = tuple((0, at) for at in range(8))
+crowd = (
+    ((0, tuple(("feel", at % 6) for at in range(8))),),
+    ((eight, 2, None), (eight, 2, None), (eight[:3], 1, None)),
+    ((0, "all", (0, 1), 1, (), 0, 0, 0), (0, "any", (0, 1, 2), 2, (), 1, 0, 0)),
+    ("bell", "bell", "door"),
+    1,
+)
+
+
+def risen(house):
+    """The HOUSE with stay None in all ZONES and no unless."""
+    zones = tuple((spots, knocks, None) for spots, knocks, _ in house[1])
+    lines = tuple(line[:4] + ((),) + line[5:] for line in house[2])
+    return (house[0], zones, lines) + house[3:]
+
+
+def some_begins(dice, spots, longest):
+    """BEGINS of some of these SPOTS by this source of numbers."""
+    return tuple((spot, dice.randrange(longest)) for spot in spots if dice.randint(0, 3))
