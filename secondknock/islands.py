@@ -131,16 +131,20 @@ def line_begin(line, sight):
     return min(seen, default=None)
 
 
-def line_row(line, sight, many):
-    """The triple (state, begin, end) of a LINE behind so many ticks."""
+def line_at_last(line, sight):
+    """The triple (state, begin, end) of a LINE at last if its panel sees the ZONES at these ticks."""
     begin = line_begin(line, sight)
     if begin is None:
         return ("idle", None, None)
     end = begin + line[3]
-    if end >= many:
-        return ("waits", begin, end)
     barred = [zone for zone in line[4] if sight[zone] is not None and sight[zone] <= end]
     return ("barred" if barred else "on", begin, end)
+
+
+def line_row(line, sight, many):
+    """The triple (state, begin, end) of a LINE behind so many ticks."""
+    state, begin, end = line_at_last(line, sight)
+    return ("waits" if end is not None and end >= many else state, begin, end)
 
 
 def all_lines(house, times, deeds, many):

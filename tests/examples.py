@@ -176,6 +176,64 @@ raises NoPlace(number=3)
 >>> room(duo, murmur, (0, 4), 0)
 raises NoSpot(spot=(0, 4))
 """),
+    (14, r"""
+>>> lines_by(barred, (1, 4)), outs_by(barred, (1, 5)), holds(inn, ("within", 0, 0, 3)), lead_of(inn, 0, 1), least_wait(inn, ("ahead", 0, 1, 0), 1)
+((('barred', 4), ('on', 5)), (4, 6), True, -1, 3)
+>>> twin, far = ("apart", 0, 1), ("ahead", 0, 1, 2)
+>>> ways_to_break(barred, twin), comparisons(barred, twin, ((0, 1), ((0, None), (1, None)), (0, 1))), breaking_times(barred, twin)
+([((0, 1), ((0, None), (1, None)), (0, 1))], ((0, 1, -4),), (0, 4))
+>>> is_loop(barred, far, ways_to_break(barred, far)[0], ((0, 1, -4), (1, 0, 3))), breaking_times(barred, far)
+(True, (0, 0))
+"""),
+    (15, r"""
+>>> silent_gaps(barred, 0, 0, 1), silent_gaps(barred, 1, 0, 1)
+([(None, 3)], [])
+>>> answers(barred)[0], [own[0] for own in answers(barred)][1:], later_if_earlier(barred, 0), later_if_earlier(barred, 1)
+((('barred', 'on'), (0, 0)), [('idle', 'idle'), ('idle', 'on'), ('on', 'idle'), ('on', 'on')], ((0, 4), (0, 3)), None)
+>>> low, high = (0, 2), (1, 5)
+>>> late_corner(barred, low, high, 0), latest_on(barred, low, high, 0), early_corner(barred, low, high, 0), earliest_on(barred, low, high, 0)
+((1, 2), None, (0, 5), 3)
+>>> ticks_had(barred, low, high, 0), may_be_silent(barred, low, high, 0), two_minded(barred), is_later_pair(barred, 0, ((1, 9), (0, 2)))
+((3, 4), True, (), True)
+>>> begun = (((0, 0), 0), ((0, 2), 2))
+>>> knocked_by(barred, begun), dirty_rows(barred, begun, 0), dirty_rows(barred, begun, 1)[2]
+((0, None), (((0, 0), 3), ((0, 2), 3), ((0, 3), None), ((0, 6), None)), ((0, 3), 3))
+>>> torn = inn[:2] + (((0, "any", (0, 1), 2, (1,), 0, 0, 0),),) + inn[3:]
+>>> two_minded(torn)
+((0, 1),)
+>>> latest_on(torn, low, high, 0)
+raises Unfit()
+"""),
+    (16, r"""
+>>> on = (((0, 0), ((5, None),)), ((0, 2), ((1, None),)), ((0, 6), ((2, None),)))
+>>> calm, twice = (inn, on, (), 10), (inn, on, ((3, ("quiet",)), (6, ("back",))), 10)
+>>> new_knocks(calm), mute_spans(twice), on_spans(twice, 0), comes_on(twice, 1), fields(twice)
+([(1, (0,)), (2, (1,))], [(3, 6)], [(4, 6), (9, 10)], [4, 8], [(0, 6), (6, 10)])
+>>> must_sound(calm, 0), quiet_ticks(calm, 0), holders(calm, 1, 4), field_play(twice, 1)[1][0], field_play(twice, 1)[2:]
+((), (4,), (1,), ((0, 0), ((6, None),)), ((), 10))
+>>> early = (((0, 0), 5), ((0, 2), 1), ((0, 6), 2))
+>>> [latest_first(inn, early, 0, *own) for own in ((0, 0), (2, 0), (1, 1), (1, 3))], out_latest(inn, early, 0, 2), out_backs(inn, early, 0, 2)
+([4, 10, 11, 11], 10, (4, 7))
+>>> are_late_deeds(inn, early, 0, 1, 1, ((4, ("more", 0)), (8, ("back",))))
+True
+>>> quiet_ticks((loft, (((0, 0), ((0, None),)), ((1, 0), ((3, None),))), (), 9), 0)
+raises CanNot()
+"""),
+    (17, r"""
+>>> crack, quick = ("break", (0, 3)), ((0, 1, 2), (1, 0, 2), (1, 2, 3), (2, 1, 3))
+>>> dumb_by(inn, 1, ((crack, ("short", (0, 4))), ())), len(least_lots(inn, 1))
+(False, 66)
+>>> lot_counts(inn, 1), is_least_lot(inn, 0, ((("short", (0, 0)),), ((0, 2),)))
+(((0, 2, 3), (1, 0, 4), (1, 1, 4), (2, 0, 33), (2, 1, 22)), True)
+>>> one_more(inn, 1, ((0, 2),))[4:], len(bell_lots(inn, 0))
+((('short', (0, 6)), ('short', (0, 7))), 39)
+>>> lobby = (inn[0], ((((0, 0), (0, 2), (0, 6)), 1, None),), ((0, "any", (0,), 0, (), 0, 0, 0),), ("bell",), 1)
+>>> spare_offs(inn), spare_offs(lobby), unfelt_offs(lobby, 3, quick), is_unfelt(inn, 3, quick, ((0, 3),))
+([], [((0, 0),), ((0, 2),), ((0, 6),)], [((0, 0),), ((0, 6),)], False)
+>>> late = (((0, 0), 5), ((0, 2), 1), ((0, 6), 2))
+>>> counts_at(inn, late, ((0, ("harm", ("short", (0, 4)))), (2, ("harm", crack)))), late_pairs(inn, 0, late, 8)[:2]
+((((0, 0), 5), ((0, 2), 2), ((0, 6), 2)), ((('short', (0, 0)), (0, 2)), (('short', (0, 1)), (0, 2))))
+"""),
     (21, r"""
 >>> island_of(3, (0,), 0), islands(3, (0, 2)), islands(2, (0,)), alike_parted(3, (0, 1), (1, 2)), alike_parted(3, (0,), ())
 ((0, 1, 2), [(0,), (1, 2)], [(0, 1)], False, True)

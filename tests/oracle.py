@@ -314,3 +314,31 @@ def risen_ticks(house, begins):
         for out in range(len(house[3]))
     ]
     return tuple(zones), tuple(lines), tuple(outs)
+
+
+def lines_by_times(house, times):
+    """The pairs (state, end) of the LINES by TIMES, by the words of [14]."""
+    rows = []
+    for _, when, called, wait, unless, _, _, _ in house[2]:
+        ticks = [times[zone] for zone in called]
+        knocked = [tick for tick in ticks if tick is not None]
+        if not knocked or (when == "all" and None in ticks):
+            rows.append(("idle", None))
+            continue
+        end = (min if when == "any" else max)(knocked) + wait
+        barred = any(times[zone] is not None and times[zone] <= end for zone in unless)
+        rows.append(("barred" if barred else "on", end))
+    return tuple(rows)
+
+
+def outs_by_times(house, times):
+    rows = lines_by_times(house, times)
+    return tuple(
+        min((end for (state, end), line in zip(rows, house[2]) if state == "on" and line[5] == out), default=None)
+        for out in range(len(house[3]))
+    )
+
+
+def all_times(many, last):
+    """All TIMES of so many ZONES to this tick, None behind the ticks."""
+    return itertools.product(list(range(last + 1)) + [None], repeat=many)

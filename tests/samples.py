@@ -145,3 +145,19 @@ def risen(house):
 def some_begins(dice, spots, longest):
     """BEGINS of some of these SPOTS by this source of numbers."""
     return tuple((spot, dice.randrange(longest)) for spot in spots if dice.randint(0, 3))
+
+
+def bare_house(zones, lines, outs):
+    """A HOUSE of one panel in which each ZONE is one feeler."""
+    ring = (0, tuple(("feel", at) for at in range(max(1, zones))))
+    return ((ring,), tuple((((0, at),), 1, None) for at in range(zones)), tuple(lines), outs, 1)
+
+
+def some_lines(dice, zones, most, longest, outs):
+    """LINES of so many ZONES by this source of numbers."""
+    found = []
+    for _ in range(dice.randint(0, most)):
+        called = tuple(sorted(dice.sample(range(zones), dice.randint(1, zones))))
+        bars = tuple(sorted(dice.sample(range(zones), dice.choice((0, 0, 1, 1, zones)))))
+        found.append((0, dice.choice(("any", "all")), called, dice.randint(0, longest), bars, dice.randrange(outs), 0, 0))
+    return found

@@ -27,6 +27,11 @@ STATEMENTS = (
     ast.Assert, ast.Delete, ast.Expr, ast.FunctionDef, ast.ClassDef, ast.ImportFrom,
 )
 AT_ONCE = {"zip", "enumerate", "reversed", "range"}
+METHODS = set(
+    "append clear copy count endswith extend find get index insert isalnum isalpha isdigit islower isspace isupper items "
+    "join keys ljust lower lstrip partition pop remove replace reverse rfind rjust rpartition rsplit rstrip setdefault "
+    "split splitlines startswith strip update upper values zfill bit_length".split()
+)
 
 
 def bound_names(tree):
@@ -132,6 +137,20 @@ class Language(unittest.TestCase):
                             self.assertIsInstance(other, ast.Constant, node.lineno)
                 if isinstance(node, ast.Constant) and isinstance(node.value, str):
                     self.assertNotIn("%", node.value)
+
+    def test_methods_and_keywords(self):
+        for path, _, tree in self.each():
+            for node in ast.walk(tree):
+                if not isinstance(node, ast.Call):
+                    continue
+                if isinstance(node.func, ast.Attribute):
+                    self.assertIn(node.func.attr, METHODS, node.lineno)
+                    self.assertEqual(node.keywords, [], node.lineno)
+                elif hasattr(builtins, node.func.id):
+                    self.assertLessEqual({own.arg for own in node.keywords}, {"key", "default", "reverse"}, node.lineno)
+                if isinstance(node.func, ast.Name) and node.func.id in ("combinations", "permutations"):
+                    self.assertIsInstance(node.args[1], (ast.Constant, ast.Name), node.lineno)
+                    self.assertTrue(isinstance(node.args[0], ast.Name) or node.args[0].func.id == "list", node.lineno)
 
     def test_where_sets_and_iterators_stand(self):
         for path, _, tree in self.each():

@@ -253,7 +253,7 @@ class ForAll(unittest.TestCase):
     def test_least_stay(self):
         dice = random.Random(72)
         seen = set()
-        for _ in range(200):
+        for _ in range(120):
             zone = some_zone(dice)
             rows = [some_speech(dice, (A, B, C, D), 12) for _ in range(dice.randint(1, 3))]
             fit = [
@@ -285,7 +285,7 @@ class ForAll(unittest.TestCase):
     def test_helps_and_room(self):
         dice = random.Random(73)
         rooms = 0
-        for _ in range(120):
+        for _ in range(80):
             zone, speech = some_zone(dice), some_speech(dice, (A, B, C, D), 9)
             plain = knock(zone, speech, 18)
             spot = dice.choice(zone[0])
