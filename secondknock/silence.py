@@ -43,10 +43,9 @@ def fields(play):
 
 
 def checked_out(play, out):
-    """The PLAY in tuples; raises NoOut if its HOUSE has none of this number."""
-    play = checked_play(play)
-    check_out(play[0], out)
-    return play
+    """The PLAY in tuples; raises NoOut if its HOUSE has none of this number, ahead of its DEEDS' errors."""
+    check_out(frozen(play[0]), out)
+    return checked_play(play)
 
 
 def is_on_by_tick(play, out):

@@ -226,6 +226,7 @@ class Errors(StyledCase):
             self.raises(NoOut(out), own.quiet_ticks, CALM, out)
             self.raises(NoOut(out), own.out_latest, inn, (), out, 1)
             self.raises(NoOut(out), own.out_backs, inn, (), out, 1)
+            self.raises(NoOut(out), own.on_spans, (inn, ON, ((1, ("more", 99)),), 10), out)
         for tick in (-1, 10, 99):
             self.raises(NoTick(tick), own.holders, CALM, 0, tick)
         self.raises(NoTick(0), own.holders, NONE, 0, 0)
