@@ -234,6 +234,54 @@ raises CanNot()
 >>> counts_at(inn, late, ((0, ("harm", ("short", (0, 4)))), (2, ("harm", crack)))), late_pairs(inn, 0, late, 8)[:2]
 ((((0, 0), 5), ((0, 2), 2), ((0, 6), 2)), ((('short', (0, 0)), (0, 2)), (('short', (0, 1)), (0, 2))))
 """),
+    (18, r"""
+>>> heal_takes((hall,), (crack, short), crack), heal_takes((hall,), (crack, short), short), heal_gives((hall,), (crack, short), short), safe_heals((hall,), (crack, short))
+(((0, 2),), (), ((0, 3), (0, 4)), (('short', (0, 4)),))
+>>> safe_orders((hall,), (crack, short)) == [(short, crack)], order_harm((hall,), (crack, short), (crack, short)), any_order((hall,), (short,))
+(True, (0, ((0, 2),)), True)
+>>> middle, end = ("break", (0, 4)), ("short", (0, 5))
+>>> count_orders((hall,), (crack, middle, end)), least_order((hall,), (crack, middle, end)) == (crack, end, middle)
+(4, True)
+>>> is_safe_order((hall,), (crack, middle, end), (middle, crack, end)), heard_along((hall,), (crack, short), (short, crack))[1] == heard((hall,), ())
+(False, True)
+>>> fewest_heals((hall,), (crack, short), ((0, 3),)), soonest((hall,), (crack, middle, end), ((0, 3),)) == (1, (crack, end, middle))
+([(('short', (0, 4)),)], True)
+>>> zone_orders(inn, (crack, short)) == [(short, crack)], zone_orders(inn, (crack,)) == [(crack,)]
+(True, True)
+>>> fewest_heals((hall,), (crack,), ((0, 1),))
+raises CanNot()
+>>> heal_takes((hall,), (crack,), short)
+raises Unfit()
+"""),
+    (19, r"""
+>>> bare_gaps(inn, 0), cut_house(inn, 0, (3,))[0][0][1], cut_house(inn, 0, ())[1][1]
+((1, 4), (('feel', 0), ('feel', 1), ('feel', 2), ('cut',), ('bell', 0), ('feel', 0)), (((0, 1), (0, 2), (0, 4)), 2, None))
+>>> may_go(inn, ((0, 0), (0, 3)), (1, 2)), may_go(inn, ((0, 2), (0, 3)), (1, 2)), kept_by(inn, 0, (1, 4)), kept_by(inn, 0, ())
+(True, False, (1, 1), (0, 0))
+>>> fewest_cuts(inn, 0, (1, 2)), is_cut_paper(inn, 0, (1, 2), ((0, 2), (1, 3), (2, 5))), count_cuts(inn, 0, (1, 2)), cheapest_cuts(inn, 0, (1, 2), (0, 5, 5, 1, 3, 0))
+((1, 2, 4), True, 2, (11, (1, 2, 3)))
+>>> starts = ((((0, 0), 5), ((0, 2), 1), ((0, 3), 4), ((0, 6), 2)),)
+>>> cuts_in_time(inn, 0, starts, 1, 7), new_gaps(inn, 0, 1, (1, 2)), with_new(inn, (0, 7), 5, 1)[1][1][0]
+((1, 2, 4), (0, 1, 6, 7), ((0, 2), (0, 3), (0, 6), (0, 7)))
+>>> cuts_in_time(inn, 0, starts, 1, 6)
+raises CanNot()
+"""),
+    (20, r"""
+>>> at_works(inn, (0,)), noise(inn, (0, 1, 2), ()), is_still(inn, (1, 2), ((0, 2),))
+(((0, 0), (0, 6)), [(0, ((0, 0),)), (1, ((0, 2), (0, 3)))], True)
+>>> fewest_offs(inn, (0,)), fewest_offs(inn, (0, 1, 2))
+([((0, 0),)], [((0, 0), (0, 2), (0, 3)), ((0, 0), (0, 2), (0, 6))])
+>>> offs = ((0, 0), (0, 2), (0, 3))
+>>> dumb_zones(inn, offs), told_back(inn, (0, 1, 2), offs, (1, 0, 2)), dumb_behind(inn, (0, 1, 2), offs, (0, 1, 2)), best_ends(inn, (0, 1, 2), offs)
+((0, 1), (((0, 2),), ((0, 0),), ((0, 3),)), (1, 0, 0), (0, (1, 0, 2)))
+>>> row = (0, (("feel", 0), ("feel", 1), ("feel", 2), ("feel", 3), ("feel", 4)))
+>>> wing = ((row,), ((((0, 0), (0, 1), (0, 2)), 2, None), (((0, 3), (0, 4)), 2, None)), ((0, "any", (0, 1), 0, (), 0, 0, 0),), ("bell",), 1)
+>>> five = ((0, 0), (0, 1), (0, 2), (0, 3), (0, 4))
+>>> fewest_days(wing, five, 2), fewest_days(wing, five, 1), is_round(wing, five, 2, (((0, 0), (0, 3)), ((0, 1), (0, 4)), ((0, 2),)))
+(3, 5, True)
+>>> fewest_days(inn, ((0, 0),), 1)
+raises CanNot()
+"""),
     (21, r"""
 >>> island_of(3, (0,), 0), islands(3, (0, 2)), islands(2, (0,)), alike_parted(3, (0, 1), (1, 2)), alike_parted(3, (0,), ())
 ((0, 1, 2), [(0,), (1, 2)], [(0, 1)], False, True)
@@ -249,5 +297,100 @@ raises CanNot()
 (('on', 6, 6), ('on', 3, 5))
 >>> seen_tick(house, (2, 3), cut, 2, 0, 9)
 raises NoPanel(number=2)
+"""),
+    (22, r"""
+>>> ways = ((0, 1, 2), (1, 2, 3), (2, 0, 4))
+>>> [marks_of(inn, 3, ways, (place, ())) for place in (0, 1, 2)]
+[(0, 2, 3, 4), (0, 3, 3, 5), (4, 4, 7, 6)]
+>>> log, none = (10, 13, 13, 15), ((),)
+>>> fitting(inn, 3, ways, none, log, 0, 20), fitting(inn, 3, ways, none, log, 1, 20)
+([((1, ()), (10, 10))], [((0, ()), (10, 10)), ((1, ()), (9, 10))])
+>>> sure_burnt(inn, 3, ways, none, log, 1, 20), speaks_from(inn, 3, ways, none, log, 1, 20, (0, 2)), best_look(inn, 3, ways, none, log, 1, 20)
+((0, 1, 2), (9, 12), ((0, 0), 1))
+>>> bar_of(inn, 3, ways, (2, ()), log, 1, 20), barring_lots(inn, 3, ways, none, (10, 13, 14, 16), 0, 20)
+((0, 1), [(0, 2), (0, 3), (1, 3)])
+>>> hours_that_fit(inn, 3, ways, (2, ()), (None, None, "lost", None), 0, 9)
+(6, None)
+>>> len(knock_orders(inn)), order_of(inn, order_begins(inn, (1, 0)))
+(6, (1, 0))
+"""),
+    (23, r"""
+>>> talk, tools = (((0, 2), ((1, 4),)),), (("back",), ("off", (0, 2)), ("quiet",))
+>>> hush, calm = ("silent", 0), ("still",)
+>>> [fewest_hands(inn, talk, tools, 6, wish, 2) for wish in (hush, ("sounds", 0), calm, ("seen", 1))]
+[((0, ('off', (0, 2))),), (), ((0, ('off', (0, 2))),), None]
+>>> fewest_hands(inn, talk, tools[2:], 6, hush, 2), fewest_hands(inn, talk, tools[:1], 6, hush, 2), fewest_hands(inn, talk, tools[:1], 6, calm, 1)
+(((2, ('quiet',)),), ((3, ('back',)),), ((4, ('back',)),))
+>>> [hands_borne(inn, talk, tools, 6, wish, 2) for wish in (hush, ("seen", 1), ("sounds", 0))]
+[0, 2, None]
+>>> [are_hands(inn, talk, tools, 6, hush, own) for own in (((0, ("quiet",)), (3, ("quiet",))), ((0, ("quiet",)),))]
+[True, False]
+>>> lone = hands_paper(inn, talk, tools[2:], 3, ("sounds", 0), 1)
+>>> [is_hands_paper(inn, talk, tools[2:], 3, ("sounds", 0), 1, own) for own in (lone, (), lone * 2)]
+[True, False, False]
+>>> hands_from(inn, stands((inn, talk, (), 3))[2], talk, tools, 3, 6, calm, 2), is_wish(inn, ("still", 0))
+(((4, ('back',)),), False)
+>>> hands_paper(inn, talk, tools, 6, hush, 2)
+raises CanNot()
+"""),
+    (24, r"""
+>>> is_so(("pledge", inn, ("within", 0, 0, 3))), is_so(("pledge", barred, ("within", 0, 0, 3))), is_so(("alike", inn, inn)), is_so(("still", inn, (1, 2), ((0, 2),)))
+(True, False, True, True)
+>>> is_paper_against(("pledge", barred, ("within", 0, 0, 3)), (1, 4)), is_paper_against(("pledge", barred, ("within", 0, 0, 3)), (1, 5))
+(True, False)
+>>> is_so(("cuts", inn, 0, (1, 1), (1, 4))), is_paper_against(("cuts", inn, 0, (1, 2), (1, 4)), ("short", (0, 3))), is_paper_against(("cuts", inn, 0, (1, 2), (1, 4)), ("break", (0, 3)))
+(True, True, False)
+>>> crack, fuse = ("break", (0, 3)), ("short", (0, 4))
+>>> is_so(("mending", inn, (fuse, crack))), is_paper_against(("mending", inn, (crack, fuse)), (0, (0, 2))), is_paper_against(("still", inn, (0, 1, 2), ()), (1, ((0, 3), (0, 6))))
+(True, True, True)
+>>> first_fallen((("alike", inn, inn), ("alike", inn, barred)))
+raises Unfit()
+"""),
+    (25, r"""
+>>> house_text(inn)
+'panels 1\nring 0\nfeel 0\ncut\nfeel 1\nfeel 2\nbell 0\ncut\nfeel 0\nzone 1 - 0.0 0.2\nzone 2 - 0.2 0.3 0.6\nline 0 any 0 3 - 0 4 0\nline 0 all 0,1 2 - 1 0 0\nout bell\nout door\n'
+>>> read_house(house_text(loft)) == loft, spot_name((0, 12)), spot_read("1.03"), set_read("0,2"), deed_read("harm break 0.4"), deed_name(("quiet",)), log_name((3, None, "lost")), log_read("-,0,lost")
+(True, '0.12', None, (0, 2), ('harm', ('break', (0, 4))), 'quiet', '3,-,lost', (None, 0, 'lost'))
+>>> play = (inn, (((0, 0), ((1, 4), (6, None))), ((0, 3), ((2, None),))), ((3, ("off", (0, 2))), (3, ("back",))), 9)
+>>> play_text(play)[len(house_text(inn)):], read_play(play_text(play)) == play
+('speak 0.0 1-4 6-\nspeak 0.3 2-\ndeed 3 off 0.2\ndeed 3 back\nticks 9\n', True)
+>>> read_house("panels 1\nring 0\nfeel 0\nzone 1 - 0.0\nring 0")
+raises BadLine(number=4)
+>>> read_house("panels 1\nring 0\nfeel 0\nzone 2 - 0.0")
+raises Unfit()
+>>> read_play(house_text(inn) + "deed 3 off 0.2")
+raises BadLine(number=16)
+"""),
+    (26, r"""
+>>> slate = Board(barred)
+>>> slate.speak((0, 0)), slate.tell(("off", (0, 3))), slate.ahead(9), slate.feels((0, 0)), slate.now()
+(None, None, (3, None), True, 0)
+>>> slate.pass_by(2), slate.speak((0, 6)), slate.speak((0, 2)), slate.knocked(), slate.ahead(9), slate.ahead(1)
+(None, None, None, (0,), (None, 3), (None, None))
+>>> mate = slate.twin()
+>>> slate.undo(), slate.ahead(9), slate == mate, slate.redo(), slate == mate, slate.play() == mate.play()
+('speak', (3, None), False, 'speak', True, True)
+>>> slate.pass_by(2), slate.stand()[6:], slate.sounding(), slate.ringing(), slate.knocked()
+(None, ((), (None, 3), False), (1,), (), (0, 1))
+>>> slate.play()[1:]
+((((0, 0), ((0, None),)), ((0, 2), ((2, None),)), ((0, 6), ((2, None),))), ((0, ('off', (0, 3))),), 4)
+>>> slate.hush((0, 0)), slate.speak((0, 0)), slate.play()[1][0]
+(None, None, ((0, 0), ((0, None),)))
+>>> slate.speak((0, 0))
+raises Unfit()
+>>> slate.tell(("part", 0))
+raises Unfit()
+>>> Board(inn).undo()
+raises NothingDone()
+"""),
+    (27, r"""
+>>> replies(barred, "speak 0.0\ntell off 0.3\nahead 9\npass 2\nspeak 0.6\nspeak 0.2\nknocked\nahead 9\nundo\nfeels 0.2\nredo\npass 2\nsounding\nringing")
+['done', 'done', '3 -', 'done', 'done', 'done', '0', '- 3', 'speak', 'no', 'speak', 'done', '1', '-']
+>>> replies(barred, "now\nspeak 0.1\nhush 0.0\ntell part 0\nredo\npass 60\nnow\nknocked\nundo\nspeak 0.0\npass 1\nplay")[:9]
+['0', 'refused NoSpot', 'refused Unfit', 'refused Unfit', 'refused NothingDone', 'done', '60', '-', 'pass_by']
+>>> is_request("pass 0"), is_request("ahead 0"), is_request("pass 61"), is_request("tell harm break 0.1"), is_request("speak 0"), is_request("now "), is_request(None)
+(False, True, False, True, False, False, False)
+>>> replies(inn, "now\nlook")
+raises BadLine(number=1)
 """),
 )

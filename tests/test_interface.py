@@ -4,8 +4,8 @@ import importlib
 import inspect
 import unittest
 
-from secondknock import errors
-from tests.interface import ERRORS, FUNCTIONS
+from secondknock import board, errors
+from tests.interface import BOARD, ERRORS, FUNCTIONS
 
 
 class Interface(unittest.TestCase):
@@ -22,6 +22,17 @@ class Interface(unittest.TestCase):
                     for own in parameters.values():
                         self.assertEqual(own.kind, inspect.Parameter.POSITIONAL_OR_KEYWORD)
                         self.assertIs(own.default, inspect.Parameter.empty)
+
+    def test_board_and_its_methods(self):
+        self.assertEqual((board.Board.__module__, board.Board.__bases__), ("secondknock.board", (object,)))
+        for name, told in BOARD.items():
+            with self.subTest(name=name):
+                self.assertIn(name, vars(board.Board))
+                parameters = list(inspect.signature(vars(board.Board)[name]).parameters.values())
+                self.assertEqual([own.name for own in parameters], ["self"] + told.split())
+                for own in parameters:
+                    self.assertEqual(own.kind, inspect.Parameter.POSITIONAL_OR_KEYWORD)
+                    self.assertIs(own.default, inspect.Parameter.empty)
 
     def test_errors_and_what_they_keep(self):
         for name, (base, attributes) in ERRORS.items():

@@ -24,7 +24,7 @@ WORDS = (
 ).split()
 STATEMENTS = (
     ast.Assign, ast.AugAssign, ast.If, ast.While, ast.For, ast.Return, ast.Break, ast.Continue, ast.Pass, ast.Raise,
-    ast.Assert, ast.Delete, ast.Expr, ast.FunctionDef, ast.ClassDef, ast.ImportFrom,
+    ast.Assert, ast.Delete, ast.Expr, ast.FunctionDef, ast.ClassDef, ast.ImportFrom, ast.Try,
 )
 AT_ONCE = {"zip", "enumerate", "reversed", "range"}
 METHODS = set(
@@ -128,6 +128,10 @@ class Language(unittest.TestCase):
             for node in ast.walk(tree):
                 if isinstance(node, ast.stmt):
                     self.assertIsInstance(node, STATEMENTS, node.lineno)
+                if isinstance(node, ast.Try):
+                    self.assertEqual((node.orelse, node.finalbody), ([], []))
+                    for own in node.handlers:
+                        self.assertIn(own.type.id, ("NoSpot", "Unfit", "NothingDone"), node.lineno)
                 if isinstance(node, ast.Constant):
                     self.assertNotIsInstance(node.value, (float, complex), node.lineno)
                 self.assertNotIsInstance(node, (ast.Div, ast.MatMult, ast.GeneratorExp, ast.Set, ast.SetComp))
@@ -138,13 +142,35 @@ class Language(unittest.TestCase):
                 if isinstance(node, ast.Constant) and isinstance(node.value, str):
                     self.assertNotIn("%", node.value)
 
+    def own_methods(self):
+        """The methods of the package's own classes, and the attributes that they assign."""
+        methods, attributes = set(), set()
+        for _, _, tree in self.each():
+            for kind in [node for node in tree.body if isinstance(node, ast.ClassDef)]:
+                methods |= {own.name for own in kind.body if isinstance(own, ast.FunctionDef)}
+                for node in ast.walk(kind):
+                    if isinstance(node, ast.Attribute) and isinstance(node.ctx, ast.Store):
+                        attributes.add(node.attr)
+        return methods, attributes
+
+    def test_classes(self):
+        methods, attributes = self.own_methods()
+        plain = {name for name in methods if not name.startswith("_")}
+        self.assertEqual(methods - plain, {"__init__", "__eq__"})
+        barred = METHODS | {"sort", "args", "encode", "decode", "hex", "fromhex", "format", "mro"} | set(WORDS)
+        for kind in (str, int, list, dict, set, bytes, tuple):
+            barred |= {name for name in dir(kind) if not name.startswith("_")}
+        self.assertEqual(plain & barred, set())
+        self.assertEqual(attributes & (methods | set(WORDS) | METHODS), set())
+
     def test_methods_and_keywords(self):
+        own_methods = self.own_methods()[0]
         for path, _, tree in self.each():
             for node in ast.walk(tree):
                 if not isinstance(node, ast.Call):
                     continue
                 if isinstance(node.func, ast.Attribute):
-                    self.assertIn(node.func.attr, METHODS, node.lineno)
+                    self.assertIn(node.func.attr, METHODS | own_methods, node.lineno)
                     self.assertEqual(node.keywords, [], node.lineno)
                 elif hasattr(builtins, node.func.id):
                     self.assertLessEqual({own.arg for own in node.keywords}, {"key", "default", "reverse"}, node.lineno)
