@@ -105,6 +105,54 @@ class Language(unittest.TestCase):
                 if isinstance(node, ast.ImportFrom):
                     self.assertLessEqual({own.name for own in node.names}, used, path.name)
 
+    def is_plain(self, node, functions, inside):
+        """Whether a module-level value is plain: no list or dict inside another value, functions from above alone."""
+        if isinstance(node, ast.Constant):
+            return not isinstance(node.value, str) or not set(re.findall(r"\w+", node.value)) & {"typing", "enum", "type"}
+        if isinstance(node, ast.Tuple):
+            return all(self.is_plain(own, functions, True) for own in node.elts)
+        if isinstance(node, ast.Dict) and not inside:
+            return all(self.is_plain(own, functions, True) for own in node.keys + node.values)
+        return isinstance(node, ast.Name) and inside and node.id in functions
+
+    def test_module_level(self):
+        for path, _, tree in self.each():
+            functions = set()
+            for node in tree.body:
+                if isinstance(node, ast.Assign):
+                    self.assertEqual(len(node.targets), 1, node.lineno)
+                    self.assertIsInstance(node.targets[0], ast.Name)
+                    self.assertTrue(self.is_plain(node.value, functions, False), (path.name, node.lineno))
+                elif isinstance(node, ast.Expr):
+                    self.assertIs(node, tree.body[0])
+                else:
+                    self.assertIsInstance(node, (ast.ImportFrom, ast.FunctionDef, ast.ClassDef))
+                if isinstance(node, ast.FunctionDef):
+                    functions.add(node.name)
+
+    def test_tables_are_only_read(self):
+        """A dict at module level is asked by an index or by `in` alone; a function from it gets a name first."""
+        for path, _, tree in self.each():
+            tables = {
+                node.targets[0].id for node in tree.body if isinstance(node, ast.Assign) and isinstance(node.value, ast.Dict)
+            }
+            for node in ast.walk(tree):
+                for own in ast.iter_child_nodes(node):
+                    if isinstance(own, ast.Name) and own.id in tables and isinstance(own.ctx, ast.Load):
+                        self.assertIsInstance(node, (ast.Subscript, ast.Compare), (path.name, own.lineno))
+                if isinstance(node, ast.Call):
+                    self.assertIsInstance(node.func, (ast.Name, ast.Attribute), (path.name, node.lineno))
+
+    def test_strings(self):
+        for path, _, tree in self.each():
+            for node in ast.walk(tree):
+                if isinstance(node, ast.Constant) and isinstance(node.value, str):
+                    self.assertIsNone(re.search(r"__|\._$", node.value), (path.name, node.lineno))
+                if isinstance(node, ast.FormattedValue):
+                    self.assertEqual((node.conversion, node.format_spec), (-1, None), (path.name, node.lineno))
+                    inner = [own for own in ast.walk(node.value) if isinstance(own, ast.Constant)]
+                    self.assertFalse([own for own in inner if isinstance(own.value, str)], (path.name, node.lineno))
+
     def test_names(self):
         for path, _, tree in self.each():
             top = {own.name for own in tree.body if isinstance(own, (ast.FunctionDef, ast.ClassDef))}
